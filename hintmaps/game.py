@@ -10,9 +10,8 @@ MOST_STARTS = 400
 MOST_BEGINNINGS = 40
 
 
+# The object on which calls are made: a puzzle, and a play of it or None.
 class Game:
-    """The object on which calls are made: a puzzle, and a play of it or None."""
-
     def __init__(self):
         self.puzzle = Puzzle()
         self.play = None

@@ -4,13 +4,10 @@ from hintmaps.play import bar_of, beliefs_behind, states_left
 from hintmaps.puzzle import is_end
 
 
+# The beliefs found so far, by number, with room for so many.
+# ways has for each belief gone through its doings on the map: (doing, the numbers of the beliefs
+# to which it may lead, one for each row that may be noticed). numbers has each belief's number.
 class BeliefMap:
-    """The beliefs found so far, by number, with room for so many.
-
-    ways has for each belief gone through its doings on the map: (doing, the numbers of the beliefs
-    to which it may lead, one for each row that may be noticed). numbers has each belief's number.
-    """
-
     def __init__(self, room):
         self.room = room
         self.over = False

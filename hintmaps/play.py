@@ -6,12 +6,9 @@ A belief is a tuple of states, each once.
 from hintmaps.puzzle import are_needs_met, state_behind, what_is_seen
 
 
+# A play of a puzzle, which doesn't change as long as the play goes on.
+# That's why what is seen of a state, and what comes of it, is worked out once and kept in sights and trials.
 class Play:
-    """A play of a puzzle, which doesn't change as long as the play goes on.
-
-    That's why what is seen of a state, and what comes of it, is worked out once and kept in sights and trials.
-    """
-
     def __init__(self, puzzle, belief, purse):
         self.puzzle = puzzle
         self.actual = tuple(puzzle.begins)

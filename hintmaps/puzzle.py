@@ -4,13 +4,10 @@ A state is a tuple of values. Needs and effects are tuples of threes.
 """
 
 
+# What has been told of a puzzle; a new one is empty.
+# For each variable there's its size, its beginning and its span: the least and the greatest value
+# with which it may begin. A doing is (needs, effects), a view (variable, needs), a fact (price, needs).
 class Puzzle:
-    """What has been told of a puzzle; a new one is empty.
-
-    For each variable there's its size, its beginning and its span: the least and the greatest value
-    with which it may begin. A doing is (needs, effects), a view (variable, needs), a fact (price, needs).
-    """
-
     def __init__(self):
         self.sizes = []
         self.begins = []
